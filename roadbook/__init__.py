@@ -1,0 +1,1 @@
+"""Roadbook: journeys planned by lines, days, walks and tickets."""

@@ -1,0 +1,39 @@
+"""Numbers, lists of rising numbers and figures: what the other files ask of values handed in."""
+
+FIGURES = "0123456789"
+MOST_FIGURES = 5
+
+
+def is_number(value, least, most):
+    """Whether it is a whole number within these bounds, both counted."""
+    # Python counts True and False among the whole numbers; the document doesn't.
+    if not isinstance(value, int) or isinstance(value, bool):
+        return False
+    return least <= value <= most
+
+
+def are_rising(values, longest, least, most):
+    """Whether it is a list of 1 to so many rising numbers, each within the bounds."""
+    if not isinstance(values, list) or not 1 <= len(values) <= longest:
+        return False
+    floor = least
+    for value in values:
+        if not is_number(value, floor, most):
+            return False
+        floor = value + 1
+    return True
+
+
+def are_figures(text):
+    """Whether a text has figures alone, and one at least."""
+    # Not isdigit: that takes figures of other scripts, too.
+    return text != "" and all([sign in FIGURES for sign in text])
+
+
+def number_by(text):
+    """The number that a word tells, or None where it tells none."""
+    if len(text) > MOST_FIGURES or not are_figures(text):
+        return None
+    if text[0] == "0" and text != "0":
+        return None
+    return int(text)
