@@ -1,7 +1,11 @@
-"""Numbers, lists of rising numbers and figures: what the other files ask of values handed in."""
+"""Numbers, lists of rising ones, figures and names: what the other files ask of values handed in."""
+
+from roadbook.errors import BadNumber
 
 FIGURES = "0123456789"
 MOST_FIGURES = 5
+LETTERS = "abcdefghijklmnopqrstuvwxyz"
+MOST_LETTERS = 8
 
 
 def is_number(value, least, most):
@@ -10,6 +14,11 @@ def is_number(value, least, most):
     if not isinstance(value, int) or isinstance(value, bool):
         return False
     return least <= value <= most
+
+
+def check_number(value, least, most):
+    if not is_number(value, least, most):
+        raise BadNumber("no number, or out of its bounds")
 
 
 def are_rising(values, longest, least, most):
@@ -37,3 +46,16 @@ def number_by(text):
     if text[0] == "0" and text != "0":
         return None
     return int(text)
+
+
+def is_name(value):
+    """Whether it is a text of 1 to 8 letters a to z."""
+    if not isinstance(value, str) or not 1 <= len(value) <= MOST_LETTERS:
+        return False
+    return all([sign in LETTERS for sign in value])
+
+
+def is_known(value, named):
+    """Whether it is one of the names of a dict."""
+    # The kind is asked first: a list, say, can't be looked for in a dict.
+    return isinstance(value, str) and value in named

@@ -26,3 +26,9 @@ NO_NUMBERS = KINDLESS + LISTS + TEXTS + [Rule()]
 NO_TEXTS = KINDLESS + LISTS + [0, 5, -1, Rule()] + HUGE
 NO_RULES = KINDLESS + LISTS + TEXTS + [0, 5] + HUGE
 NO_LISTS = KINDLESS + TEXTS + [0, 5, Rule()] + HUGE
+# Names that no test gives to anything, and texts that are no names at all.
+UNKNOWN = ["nowhere", "zz", "", " ", "A", "a ", " a", "a\n", "a1", "A" * 9, "a" * 9, "a" * 5000, "a#", "a b"]
+NO_NAMES = NO_TEXTS + [
+    "", " ", "A", "Ab", "aB", "a1", "1", "a ", " a", "a b", "a\n", "\n", "a-b", "a_b", "a.b", "a#", "#", "`", "{", "@",
+    "[", "a:b", "abcdefghi", "a" * 9, "a" * 5000, "~",
+]

@@ -251,6 +251,49 @@ def check_sets(module):
             module.fault(node, "L24")
 
 
+WALKED = ("zip", "enumerate", "reversed", "range")
+WALKED_METHODS = ("items", "keys", "values")
+WALKERS = ("list", "tuple", "dict", "sorted", "sum", "any", "all", "enumerate", "zip")
+
+
+def is_walked(node, above):
+    """Whether what is to be walked at once stands where it is."""
+    if isinstance(above, (ast.For, ast.comprehension)):
+        return above.iter is node
+    if not isinstance(above, ast.Call) or not above.args or above.args[0] is not node:
+        return False
+    if isinstance(above.func, ast.Attribute):
+        return above.func.attr == "join" and isinstance(above.func.value, ast.Constant)
+    name = getattr(above.func, "id", "")
+    return name in WALKERS or name in ("min", "max") and len(above.args) == 1
+
+
+def check_walks(module):
+    parents = {child: node for node in ast.walk(module.tree) for child in ast.iter_child_nodes(node)}
+    for node in module.nodes(ast.Call):
+        name = getattr(node.func, "id", "")
+        method = getattr(node.func, "attr", "")
+        if (name in WALKED or method in WALKED_METHODS) and not is_walked(node, parents[node]):
+            module.fault(node, "L23")
+
+
+def check_class_uses(modules):
+    classes = [node.name for module in modules for node in module.nodes(ast.ClassDef)]
+    for module in modules:
+        parents = {child: node for node in ast.walk(module.tree) for child in ast.iter_child_nodes(node)}
+        for node in module.nodes(ast.Name):
+            if node.id not in classes and node.id not in ERRORS:
+                continue
+            above = parents[node]
+            if isinstance(above, ast.Tuple):
+                above = parents[above]
+            asked = isinstance(above, ast.Call) and getattr(above.func, "id", "") == "isinstance"
+            called = isinstance(above, (ast.Call, ast.Attribute)) and node in (
+                getattr(above, "func", None), getattr(above, "value", None))
+            if not asked and not called and not isinstance(above, (ast.ClassDef, ast.ExceptHandler)):
+                module.fault(node, f"L18 {node.id}")
+
+
 def check_own_names(modules):
     methods, values = [], []
     for module in modules:
@@ -288,11 +331,12 @@ def faults_of(folder, package):
                           for name in bound_by(node)] for module in modules}
     methods = check_own_names(modules)
     check_cycles(modules, package)
+    check_class_uses(modules)
     for module in modules:
         check_imports(module, package, tops)
         check_attributes(module, methods)
         for check in [check_signs, check_top, check_functions, check_classes, check_statements, check_expressions,
-                      check_names, check_sets]:
+                      check_names, check_sets, check_walks]:
             check(module)
         faults.extend(module.faults)
     return faults

@@ -23,6 +23,10 @@ OUTSIDE = [
     "class Told:\n    value = 1", "class Told:\n    def __hash__(self):\n        return 1",
     "class Told:\n    def say(self):\n        self.say = 1",
     "class Told:\n    def __init__(self):\n        self.items = 1",
+    "def told(x):\n    y = zip(x, x)\n    return list(y)", "def told(x):\n    return x.items()",
+    "def told(x):\n    return reversed(x)", "def told(x, y):\n    return max(range(x), range(y))",
+    "def told(x, y):\n    return y.join(x.keys())", "class Told:\n    pass\n\n\ndef told():\n    return [Told]",
+    "class Told:\n    pass\n\n\ndef told():\n    x = Told\n    return x()",
     "class Told:\n    def __init__(self):\n        return None", "class Told:\n    def sort(self):\n        return 1",
 ]
 
@@ -33,6 +37,9 @@ WITHIN = [
     "def told(x):\n    return sorted(x, key=lambda y: y[0], reverse=True)",
     "def told(x):\n    try:\n        return int(x)\n    except ValueError:\n        return None",
     "def told(x):\n    return [f'{y}' for y in x if y != 1]",
+    "def told(x):\n    return [y for y in x.items()] + sorted(x.values()) + list(reversed(list(x)))",
+    "def told(x):\n    for y in range(3):\n        x.append(max(x.keys(), default=y))\n    return ' '.join(x.keys())",
+    "class Told:\n    pass\n\n\ndef told(x):\n    return Told() if isinstance(x, (Told, int)) else None",
     "class Told:\n    def __init__(self):\n        self.left = 1\n\n    def say(self):\n        return self.left",
 ]
 
