@@ -47,7 +47,7 @@ def have_row_form(words):
     if words[0] == "days":
         return count >= 3
     # Three words ahead of the calls, and three for each.
-    return words[0] == "trip" and count >= 3 and count % 3 == 0
+    return words[0] == "trip" and count % 3 == 0
 
 
 def put_words(net, words):
