@@ -8,6 +8,7 @@ DAY_MINUTES = 1440
 HOUR_MINUTES = 60
 LAST_MINUTE = 2879
 LAST_MOMENT = 14399999
+LAST_BEGIN = 14000000
 
 
 def two_figures(number):
@@ -71,3 +72,9 @@ def moment_by(text):
         raise BadClock("no day and HH:MM")
     # A word that is no number tells None, which moment_of refuses.
     return moment_of(number_by(words[0]), minute_of(words[1]))
+
+
+def check_begin(begin):
+    """Refuses what is no moment at which a journey may begin."""
+    if not is_number(begin, 0, LAST_BEGIN):
+        raise BadClock("no moment to begin at")

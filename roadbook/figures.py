@@ -8,12 +8,15 @@ LETTERS = "abcdefghijklmnopqrstuvwxyz"
 MOST_LETTERS = 8
 
 
+def is_any_number(value):
+    """Whether it is a whole number."""
+    # Python counts True and False among the whole numbers; the document doesn't.
+    return isinstance(value, int) and not isinstance(value, bool)
+
+
 def is_number(value, least, most):
     """Whether it is a whole number within these bounds, both counted."""
-    # Python counts True and False among the whole numbers; the document doesn't.
-    if not isinstance(value, int) or isinstance(value, bool):
-        return False
-    return least <= value <= most
+    return is_any_number(value) and least <= value <= most
 
 
 def check_number(value, least, most):

@@ -51,3 +51,20 @@ def full_net():
                  for at in range(2 + number % 5)]
         net.add_trip("t" + "abcdefghij"[number], "r" + stops[number % 6], calls)
     return net
+
+
+def crowded_net(tickets, lasts=1440):
+    """From a at 0 on there are 148 least labels, and one more for each of at most 3 tickets."""
+    net = Net()
+    # Nobody who gets off can board one of the later runs, so all of them are of one ride.
+    for name in "abcdegh":
+        net.add_stop(name, 1, 30)
+    # The last stop of the last trip has a zone that not all of the tickets have.
+    net.add_stop("f", 2, 30)
+    net.add_rule("all", Rule())
+    for number, name in enumerate("xyz"):
+        net.add_ticket(name, 100 + number, lasts, [1, 2] if number < tickets else [1])
+    for number, name in enumerate("klmnopqrst"):
+        stops = "abcde" + ("f" if number == 9 else "g")
+        net.add_trip(name, "all", [(stop, number + at * 20, number + at * 20) for at, stop in enumerate(stops)])
+    return net

@@ -1,7 +1,8 @@
 import unittest
 
 from roadbook.errors import BadNumber
-from roadbook.figures import are_figures, are_rising, check_number, is_known, is_name, is_number, number_by
+from roadbook.figures import (
+    are_figures, are_rising, check_number, is_any_number, is_known, is_name, is_number, number_by)
 
 from kinds import HUGE, LISTS, NO_LISTS, NO_NAMES, NO_NUMBERS, NO_TEXTS, UNKNOWN
 
@@ -12,6 +13,12 @@ class FigureTests(unittest.TestCase):
             self.assertTrue(is_number(value, -2, 7))
         for value in [-3, 8] + HUGE + NO_NUMBERS:
             self.assertFalse(is_number(value, -2, 7))
+
+    def test_any_numbers(self):
+        for value in [-2, 0, 7] + HUGE:
+            self.assertTrue(is_any_number(value))
+        for value in NO_NUMBERS:
+            self.assertFalse(is_any_number(value))
 
     def test_checks_of_numbers(self):
         for value in [-2, 0, 7]:

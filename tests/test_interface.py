@@ -23,8 +23,18 @@ INTERFACE = {
     "writer": {"net_text": "(net)"},
     "feet": {"Feet": "(net)", "Feet.minutes": "(self, one, other)", "Feet.way": "(self, one, other)"},
     "runs": {"runs_between": "(net, begin, end, notices=None)"},
+    "rounds": {
+        "rounds": "(net, stop, begin, most=3, notices=None)", "reached": "(net, stop, begin, most=3, notices=None)",
+        "earliest": "(net, one, other, begin, most=3, notices=None)"},
     "tickets": {"zone_bits": "(zones)", "zones_of": "(net, trip, board, off)", "fits": "(net, ticket, bits)"},
     "fares": {"price_of": "(net, rides, bought)", "least_tickets": "(net, rides)"},
+    "labels": {
+        "no_worse": "(one, other)", "follow": "(net, label, end, notices=None)",
+        "least_labels": "(net, beginnings, most=3, notices=None)"},
+    "plans": {"gone": "(net, plan, notices=None)"},
+    "fronts": {
+        "front": "(net, one, other, begin, most=3, notices=None)",
+        "front_from": "(net, beginnings, other, most=3, notices=None)"},
     "notices": {
         "Notices": "(net)", "Notices.late": "(self, trip, day, call, minutes)", "Notices.out": "(self, trip, day)",
         "Notices.back": "(self, trip, day)", "Notices.moments": "(self, trip, day)", "Notices.told": "(self)"},
