@@ -53,6 +53,17 @@ class Net:
         self.ticket_rows = {}
         self.trip_rows = {}
 
+    def copied(self):
+        """Another net that tells the same."""
+        # What the rows hold is never changed, so the rows themselves may stand in both.
+        twin = Net()
+        twin.stop_rows = dict(self.stop_rows)
+        twin.walk_rows = list(self.walk_rows)
+        twin.rule_rows = dict(self.rule_rows)
+        twin.ticket_rows = dict(self.ticket_rows)
+        twin.trip_rows = dict(self.trip_rows)
+        return twin
+
     def add_stop(self, name, zone, change):
         check_new(name, self.stop_rows)
         check_number(zone, 1, LAST_ZONE)

@@ -3,7 +3,7 @@
 from roadbook.clocks import DAY_MINUTES, LAST_DAY
 from roadbook.errors import BadCalls, BadClock, NoRun, NoTrip
 from roadbook.figures import check_number, is_known, is_number
-from roadbook.net import can_follow
+from roadbook.net import Net, can_follow
 
 MOST_LATE = 300
 
@@ -32,6 +32,14 @@ class Notices:
         # By (day, trip): the runs that are out, and the minutes of each call of the late ones.
         self.taken = {}
         self.lateness = {}
+
+    def copied(self):
+        """Other notices of the same net that tell the same."""
+        twin = Notices(Net())
+        twin.timetable = dict(self.timetable)
+        twin.taken = dict(self.taken)
+        twin.lateness = dict(self.lateness)
+        return twin
 
     def late(self, trip, day, call, minutes):
         """From a call on the run is so many minutes behind the timetable."""

@@ -12,22 +12,19 @@ from roadbook.tickets import zones_of
 def gone(net, plan, notices=None):
     """A plan's worth (come, rides, price)."""
     check_form(net, plan)
-    places = places_of(net, plan, notices)
+    places = Ways(net, notices).places(plan)
     if len(places) <= len(plan[2]):
         raise NoPlan(len(places) - 1)
     return places[-1].worth()
 
 
-def places_of(net, plan, notices=None):
-    """Where one is at the beginning and behind each leg, up to the first one that can't be gone."""
-    ways = Ways(net, notices)
-    places = [Place(plan[0], plan[1], plan[1], NOTHING_HELD, 0, 0)]
-    for leg in plan[2]:
-        place = ways.behind(places[-1], leg)
-        if place is None:
-            break
-        places.append(place)
-    return places
+def can_be_gone(net, plan, notices=None):
+    """Whether a plan of the right form can be gone."""
+    return len(Ways(net, notices).places(plan)) > len(plan[2])
+
+
+def copy_of_plan(plan):
+    return (plan[0], plan[1], list(plan[2]))
 
 
 def plan_by(stop, begin, rides, bought, other):
@@ -96,6 +93,16 @@ class Ways:
         self.net = net
         self.feet = Feet(net)
         self.notices = Notices(net) if notices is None else notices
+
+    def places(self, plan):
+        """Where one is at the beginning and behind each leg, up to the first one that can't be gone."""
+        found = [Place(plan[0], plan[1], plan[1], NOTHING_HELD, 0, 0)]
+        for leg in plan[2]:
+            place = self.behind(found[-1], leg)
+            if place is None:
+                break
+            found.append(place)
+        return found
 
     def behind(self, place, leg):
         """Where one is behind a leg, or None where it can't be gone."""

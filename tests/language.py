@@ -277,6 +277,38 @@ def check_walks(module):
             module.fault(node, "L23")
 
 
+CHANGES = ("append", "clear", "extend", "insert", "pop", "remove", "reverse", "setdefault", "update")
+
+
+def walked_by(node):
+    """What a loop walks, itself or through what Python lays over it."""
+    if isinstance(node, ast.Call) and getattr(node.func, "id", "") in ("enumerate", "zip", "reversed"):
+        return [each for part in node.args for each in walked_by(part)]
+    if isinstance(node, ast.Call) and getattr(node.func, "attr", "") in WALKED_METHODS:
+        return [node.func.value]
+    return [node] if isinstance(node, (ast.Name, ast.Attribute, ast.Subscript)) else []
+
+
+def changed_by(node):
+    if isinstance(node, ast.Call) and getattr(node.func, "attr", "") in CHANGES:
+        return [node.func.value]
+    if isinstance(node, (ast.Assign, ast.AugAssign)):
+        targets = node.targets if isinstance(node, ast.Assign) else [node.target]
+        return [target.value for target in targets if isinstance(target, ast.Subscript)]
+    return []
+
+
+def same(one, other):
+    return ast.dump(one).replace("Store()", "Load()") == ast.dump(other).replace("Store()", "Load()")
+
+
+def check_loops(module):
+    for loop in module.nodes(ast.For):
+        changed = [each for part in loop.body for node in ast.walk(part) for each in changed_by(node)]
+        if any(same(one, other) for one in walked_by(loop.iter) for other in changed):
+            module.fault(loop, "L23")
+
+
 def check_class_uses(modules):
     classes = [node.name for module in modules for node in module.nodes(ast.ClassDef)]
     for module in modules:
@@ -336,7 +368,7 @@ def faults_of(folder, package):
         check_imports(module, package, tops)
         check_attributes(module, methods)
         for check in [check_signs, check_top, check_functions, check_classes, check_statements, check_expressions,
-                      check_names, check_sets, check_walks]:
+                      check_names, check_sets, check_walks, check_loops]:
             check(module)
         faults.extend(module.faults)
     return faults

@@ -38,6 +38,20 @@ INTERFACE = {
     "notices": {
         "Notices": "(net)", "Notices.late": "(self, trip, day, call, minutes)", "Notices.out": "(self, trip, day)",
         "Notices.back": "(self, trip, day)", "Notices.moments": "(self, trip, day)", "Notices.told": "(self)"},
+    "watch": {
+        "Watch": "(net, one, other, begin, most=3)", "Watch.late": "(self, trip, day, call, minutes)",
+        "Watch.out": "(self, trip, day)", "Watch.back": "(self, trip, day)", "Watch.front": "(self)",
+        "Watch.made": "(self)"},
+    "travel": {
+        "where_at": "(net, plan, moment, notices=None)", "beginnings_at": "(net, plan, moment, notices=None)",
+        "legs_to": "(net, plan, moment, beginning, notices=None)"},
+    "desk": {
+        "Desk": "(net)", "Desk.now": "(self)", "Desk.wait": "(self, moment)", "Desk.names": "(self)",
+        "Desk.enter": "(self, name, plan)", "Desk.plan": "(self, name)", "Desk.where": "(self, name)",
+        "Desk.late": "(self, trip, day, call, minutes)", "Desk.out": "(self, trip, day)",
+        "Desk.back": "(self, trip, day)", "Desk.again": "(self, name, other=None, most=3)",
+        "Desk.take": "(self, name, place, other=None, most=3)"},
+    "shell": {"answered": "(desk, line)", "played": "(text)"},
 }
 
 

@@ -27,6 +27,8 @@ OUTSIDE = [
     "def told(x):\n    return reversed(x)", "def told(x, y):\n    return max(range(x), range(y))",
     "def told(x, y):\n    return y.join(x.keys())", "class Told:\n    pass\n\n\ndef told():\n    return [Told]",
     "class Told:\n    pass\n\n\ndef told():\n    x = Told\n    return x()",
+    "def told(x):\n    for y in x:\n        x.append(y)", "def told(x):\n    for y, z in x.items():\n        x[y] = 1",
+    "def told(x):\n    for y, z in enumerate(x.z):\n        if z:\n            x.z.pop()\n            return y",
     "class Told:\n    def __init__(self):\n        return None", "class Told:\n    def sort(self):\n        return 1",
 ]
 
@@ -39,6 +41,7 @@ WITHIN = [
     "def told(x):\n    return [f'{y}' for y in x if y != 1]",
     "def told(x):\n    return [y for y in x.items()] + sorted(x.values()) + list(reversed(list(x)))",
     "def told(x):\n    for y in range(3):\n        x.append(max(x.keys(), default=y))\n    return ' '.join(x.keys())",
+    "def told(x, z):\n    for y in list(x):\n        x.pop(y)\n    for y in z:\n        x[y] = z",
     "class Told:\n    pass\n\n\ndef told(x):\n    return Told() if isinstance(x, (Told, int)) else None",
     "class Told:\n    def __init__(self):\n        self.left = 1\n\n    def say(self):\n        return self.left",
 ]

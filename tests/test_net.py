@@ -376,5 +376,27 @@ class Kept(NetCase):
         self.assertEqual(self.net.stops()[-1] + self.net.trips()[-1], "dnew")
 
 
+class Copied(NetCase):
+    def add_to(self, net):
+        net.add_stop("new", 1, 0)
+        net.add_walk("a", "new", 1)
+        net.add_rule("new", Rule())
+        net.add_ticket("new", 1, 1, [1])
+        net.add_trip("new", "new", GOOD_CALLS)
+
+    def test_it_tells_the_same(self):
+        for net in [Net(), self.net, full_net()]:
+            self.assertEqual(told_of(net.copied()), told_of(net))
+
+    def test_each_may_be_changed_by_itself(self):
+        before = told_of(self.net)
+        twin = self.net.copied()
+        self.add_to(twin)
+        self.assertEqual(told_of(self.net), before)
+        twin = self.net.copied()
+        self.add_to(self.net)
+        self.assertEqual(told_of(twin), before)
+
+
 if __name__ == "__main__":
     unittest.main()

@@ -316,6 +316,25 @@ class Told(NoticesCase):
         self.assertRaises(NoTrip, notices.out, "t", 0)
 
 
+class Copied(NoticesCase):
+    def test_each_may_be_told_of_by_itself(self):
+        self.notices.late("t", 1, 1, 5)
+        self.notices.out("t", 2)
+        twin = self.notices.copied()
+        before = as_told(self.notices)
+        self.assertEqual(as_told(twin), before)
+        twin.late("t", 0, 0, 1)
+        twin.late("t", 1, 0, 7)
+        twin.out("t", 3)
+        twin.back("t", 2)
+        self.assertEqual(as_told(self.notices), before)
+        self.assertEqual(twin.told(), [(0, "t", [1] * 4), (1, "t", [7] * 4), (3, "t", "out")])
+        twin = self.notices.copied()
+        self.notices.back("t", 1)
+        self.notices.back("t", 2)
+        self.assertEqual(as_told(twin), before)
+
+
 class AgainstAPlainAccount(unittest.TestCase):
     """Many notices of a run, beside a plain account of what they say."""
 
